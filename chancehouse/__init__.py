@@ -1,0 +1,1 @@
+"""Chancehouse: machines of chance, told exactly."""
