@@ -1,4 +1,4 @@
-"""Holds the package's files against those rules of the language that a reader of trees can see."""
+"""Holds the package's files against some rules of the language; not all of them are looked at here."""
 
 import ast
 import builtins
