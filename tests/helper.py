@@ -1,6 +1,9 @@
-"""What all tests share: calls that are watched for what point 2 promises, and refusals."""
+"""What all tests share: calls that are watched for what point 2 promises, refusals, and chains."""
 
 import copy
+import itertools
+import math
+import random
 
 from chancehouse import errors
 
@@ -64,3 +67,46 @@ def refuses(case, refusal, function, *given):
     else:
         case.fail(f"not refused, but told {answer!r}: {given!r}")
     case.assertEqual(repr(given), before, "a refused call changed what was handed in")
+
+
+def is_fraction(thing):
+    if not isinstance(thing, tuple) or len(thing) != 2 or any(type(part) is not int for part in thing):
+        return False
+    return thing[1] > 0 and math.gcd(*thing) == 1
+
+
+def uneven_row(targets):
+    """A row into just these rooms, no two of them with the same chance."""
+    whole = sum(target + 1 for target in targets)
+    shared = [math.gcd(target + 1, whole) for target in targets]
+    return [(target, ((target + 1) // one, whole // one)) for target, one in zip(targets, shared)]
+
+
+def chains_of(many):
+    """A chain for each choice of the rooms into which the ways of each room lead."""
+    choices = [targets for size in range(1, many + 1) for targets in itertools.combinations(range(many), size)]
+    return [[uneven_row(targets) for targets in some] for some in itertools.product(choices, repeat=many)]
+
+
+def marks_of(many):
+    return [list(some) for size in range(many + 1) for some in itertools.combinations(range(many), size)]
+
+
+def some_chains(many, count):
+    """So many chains of so many rooms, the same ones each time, with few ways in most rooms."""
+    chooser = random.Random(many)
+    sizes = [min(size, many) for size in (1, 1, 1, 2, 2, 3)]
+    return [[uneven_row(sorted(chooser.sample(range(many), chooser.choice(sizes)))) for room in range(many)]
+            for chain in range(count)]
+
+
+def questions():
+    """Chains with marks: all small ones, and some of up to ten rooms."""
+    for many in (1, 2, 3):
+        for chain in chains_of(many):
+            for marks in marks_of(many):
+                yield chain, marks
+    for many in (4, 5, 7, 10):
+        for number, chain in enumerate(some_chains(many, 150)):
+            for marks in ([], [number % many], sorted({number % many, number // 3 % many}), list(range(many))):
+                yield chain, marks

@@ -34,6 +34,10 @@ methodcaller os quit setattr super vars sys chr
 UNUSED_WORDS = re.compile(
     r"\b(type|typing|typing_extensions|enum|Enum|IntEnum|StrEnum|Flag|IntFlag|Generic|Protocol|ABC|ABCMeta|namedtuple"
     r"|NamedTuple|TypedDict|TYPE_CHECKING|abstractmethod)\b|dataclass|overload|contextmanager")
+WALKED = ("zip", "enumerate", "reversed", "range", "items", "keys", "values")
+WALKERS = ("list", "tuple", "dict", "sorted", "sum", "any", "all", "enumerate", "zip", "min", "max")
+KEYWORDS = {"sorted": ("key", "reverse"), "min": ("key", "default"), "max": ("key", "default"), "sum": ("start",),
+            "enumerate": ("start",), "zip": ("strict",)}
 PLAIN_NAME = re.compile(r"[A-Za-z][A-Za-z0-9_]*\Z")
 DUNDERS = ("__init__", "__eq__", "__repr__", "__str__", "__len__")
 
@@ -52,6 +56,15 @@ def bound_names(tree):
 def imported_names(tree):
     return [alias.asname or alias.name
             for node in tree.body if isinstance(node, ast.ImportFrom) for alias in node.names]
+
+
+def called(node):
+    return node.func.id if isinstance(node.func, ast.Name) else getattr(node.func, "attr", None)
+
+
+def drawn_from(name):
+    return [node.module.split(".")[1] + ".py" for node in ast.parse(text_of(name)).body
+            if isinstance(node, ast.ImportFrom)]
 
 
 class Language(unittest.TestCase):
@@ -88,8 +101,13 @@ class Language(unittest.TestCase):
             if isinstance(node, ast.ListComp):
                 self.assertEqual(len(node.generators), 1)
                 self.assertLessEqual(len(node.generators[0].ifs), 1)
-            if isinstance(node, ast.Expr):
-                self.assertIsInstance(node.value, (ast.Call, ast.Constant))
+            if isinstance(node, ast.Expr) and node is not tree.body[0]:
+                self.assertIsInstance(node.value, ast.Call)
+            if isinstance(node, ast.BinOp) and isinstance(node.op, ast.Pow):
+                self.assertIn(getattr(node.right, "value", None), range(65))
+            if isinstance(node, ast.Compare) and any(isinstance(op, (ast.Is, ast.IsNot)) for op in node.ops):
+                self.assertEqual(len(node.ops), 1)
+                self.assertIn(repr(getattr(node.comparators[0], "value", 0)), ("None", "True", "False"))
 
     def test_the_top_of_a_file(self):
         self.check_files(self.check_top)
@@ -116,6 +134,34 @@ class Language(unittest.TestCase):
                 self.assertIn(node.module.split(".")[1] + ".py", FILES)
                 self.assertNotIn("*", [alias.name for alias in node.names])
                 self.assertIn(node, tree.body)
+
+    def test_no_two_files_draw_from_one_another(self):
+        drawn = {name: drawn_from(name) for name in FILES}
+        while drawn:
+            free = [name for name in drawn if not any(other in drawn for other in drawn[name])]
+            self.assertNotEqual(free, [], drawn)
+            drawn = {name: others for name, others in drawn.items() if name not in free}
+
+    def test_what_is_walked_at_once(self):
+        self.check_files(self.check_walks)
+
+    def check_walks(self, name, text, tree):
+        walked = [node.iter for node in ast.walk(tree) if isinstance(node, (ast.For, ast.comprehension))]
+        for node in ast.walk(tree):
+            if isinstance(node, ast.Call) and getattr(node.func, "id", None) in WALKERS:
+                walked.extend(node.args if node.func.id == "zip" else node.args[:1])
+        for node in ast.walk(tree):
+            if isinstance(node, ast.Call) and called(node) in WALKED:
+                self.assertTrue(any(node is one for one in walked), f"line {node.lineno}")
+
+    def test_keywords(self):
+        self.check_files(self.check_keywords)
+
+    def check_keywords(self, name, text, tree):
+        for node in ast.walk(tree):
+            if isinstance(node, ast.Call) and called(node) in OWN_NAMES + METHODS:
+                for keyword in node.keywords:
+                    self.assertIn(keyword.arg, KEYWORDS.get(called(node), ()))
 
     def test_functions_and_classes(self):
         self.check_files(self.check_definitions)
