@@ -1,24 +1,14 @@
 """Ever: the chance to come to a mark at all, its paper, and which papers hold."""
 
-from chancehouse.exact import NOUGHT, ONE, minus
-from chancehouse.roads import leads_lower, ranks
+from chancehouse.exact import NOUGHT, ONE
+from chancehouse.roads import level_holds, ranks
 from chancehouse.rows import weighed
-from chancehouse.tables import solved
-
-
-def table_row(chain, levels, room):
-    # Only rooms under way are weighed by their rows. Were marks or lost rooms so too, they would
-    # ask nothing where they lead back into themselves, and there would be more than one list.
-    numbers = [ONE if other == room else NOUGHT for other in range(len(chain))]
-    if levels[room] is not None and levels[room] > 0:
-        for target, chance in chain[room]:
-            numbers[target] = minus(numbers[target], chance)
-    return numbers
+from chancehouse.tables import chain_table, solved
 
 
 def values_by(chain, levels):
-    table = [table_row(chain, levels, room) for room in range(len(chain))]
-    return solved(table, [ONE if level == 0 else NOUGHT for level in levels])
+    going = [room for room, level in enumerate(levels) if level is not None and level > 0]
+    return solved(chain_table(chain, going), [ONE if level == 0 else NOUGHT for level in levels])
 
 
 def ever(chain, marks):
@@ -34,14 +24,10 @@ def mark_holds(values, levels, room):
     return values[room] == ONE and levels[room] == 0
 
 
-def lost_room_holds(chain, values, levels, room):
-    return values[room] == NOUGHT and all([levels[target] is None for target, chance in chain[room]])
-
-
-def ranked_room_holds(chain, values, levels, room):
-    if levels[room] < 1 or not leads_lower(chain[room], levels, levels[room]):
-        return False
-    return values[room] == weighed(chain[room], values)
+def value_holds(row, values, level, value):
+    if level is None:
+        return value == NOUGHT
+    return value == weighed(row, values)
 
 
 def room_holds(chain, marks, paper, room):
@@ -49,9 +35,9 @@ def room_holds(chain, marks, paper, room):
     levels = paper[1]
     if room in marks:
         return mark_holds(values, levels, room)
-    if levels[room] is None:
-        return lost_room_holds(chain, values, levels, room)
-    return ranked_room_holds(chain, values, levels, room)
+    if not level_holds(chain[room], levels, levels[room]):
+        return False
+    return value_holds(chain[room], values, levels[room], values[room])
 
 
 def ever_holds(chain, marks, paper):

@@ -31,6 +31,13 @@ def fraction(top, bottom):
     return (top // shared, bottom // shared)
 
 
+def shared_bottom(some):
+    bottom = 1
+    for one in some:
+        bottom = bottom * (one[1] // common_divisor(bottom, one[1]))
+    return bottom
+
+
 def plus(one, other):
     return fraction(one[0] * other[1] + other[0] * one[1], one[1] * other[1])
 

@@ -9,6 +9,18 @@ def leads_lower(row, levels, level):
     return any([levels[room] is not None and levels[room] < level for room, chance in row])
 
 
+def leads_to_none(row, levels):
+    return all([levels[room] is None for room, chance in row])
+
+
+def level_holds(row, levels, level):
+    # Going lower must come to an end, and rooms without a level lead to no other ones: so whatever
+    # numbers the levels are, just the right rooms have one.
+    if level is None:
+        return leads_to_none(row, levels)
+    return level >= 1 and leads_lower(row, levels, level)
+
+
 def ways_to(chain, ends, shut):
     counts = [0 if room in ends else None for room in range(len(chain))]
     # The fewest ways come into no room twice, so they are fewer than the rooms. A shut room stays

@@ -47,5 +47,13 @@ def stepped(chain, spread):
     return gathered
 
 
+def ways_in(chain):
+    gathered = [[] for row in chain]
+    for room, row in enumerate(chain):
+        for target, chance in row:
+            gathered[target].append((room, chance))
+    return gathered
+
+
 def halted(chain, marks):
     return [[(room, ONE)] if room in marks else list(row) for room, row in enumerate(chain)]

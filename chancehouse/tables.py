@@ -1,16 +1,29 @@
 """Tables of numbers: solved for their dues, and their idle lists."""
 
 from chancehouse.errors import NoAnswer
-from chancehouse.exact import NOUGHT, ONE, common_divisor, fraction
+from chancehouse.exact import NOUGHT, ONE, fraction, minus, shared_bottom
+
+
+def chain_table(chain, going):
+    # Only the rooms told here are weighed by their rows, each other one is asked for its due alone.
+    # Were a sink among those weighed, it would ask nothing of itself, and there would be more than
+    # one list.
+    table = [[ONE if place == room else NOUGHT for place in range(len(chain))] for room in range(len(chain))]
+    for room in going:
+        for target, chance in chain[room]:
+            table[room][target] = minus(table[room][target], chance)
+    return table
+
+
+def flipped(table):
+    return [[row[place] for row in table] for place in range(len(table))]
 
 
 def made_whole(some):
     # What a row asks stays the same where it is multiplied as a whole, and with whole numbers no
     # common divisors need to be found on the way.
-    shared = 1
-    for one in some:
-        shared = shared * (one[1] // common_divisor(shared, one[1]))
-    return [one[0] * (shared // one[1]) for one in some]
+    bottom = shared_bottom(some)
+    return [one[0] * (bottom // one[1]) for one in some]
 
 
 def lead_from(rows, start, place):

@@ -1,12 +1,20 @@
 """What all tests share: calls that are watched for what point 2 promises, refusals, and chains."""
 
 import copy
+import fractions
 import itertools
 import math
 import random
 
 from chancehouse import errors
 
+NOUGHT = (0, 1)
+ONE = (1, 1)
+HALF = (1, 2)
+THIRD = (1, 3)
+ALONE = [[(0, ONE)]]
+# 0 leads on to 1 or back into itself, 1 to 2 or into the trap 3; 4 leads to 0 and 2.
+HALL = [[(0, HALF), (1, HALF)], [(2, THIRD), (3, (2, 3))], [(0, ONE)], [(3, ONE)], [(0, HALF), (2, HALF)]]
 REFUSALS = (
     errors.NoNumber, errors.NoRow, errors.NoRule, errors.NoAnswer,
     errors.NoText, errors.NoName, errors.NoHouse, errors.NoWord,
@@ -75,6 +83,27 @@ def is_fraction(thing):
     return thing[1] > 0 and math.gcd(*thing) == 1
 
 
+def as_fraction(one):
+    return fractions.Fraction(one[0], one[1])
+
+
+def as_pair(one):
+    return (one.numerator, one.denominator)
+
+
+def weighed_by_hand(row, values):
+    return sum(as_fraction(chance) * as_fraction(values[room]) for room, chance in row)
+
+
+def reached(chain, start, marks):
+    """The rooms, the start too, to which one comes by way of rooms that are no marks."""
+    rooms, last = {start}, None
+    while rooms != last:
+        last = rooms
+        rooms = rooms | {room for one in rooms if one not in marks for room, chance in chain[one]}
+    return rooms
+
+
 def uneven_row(targets):
     """A row into just these rooms, no two of them with the same chance."""
     whole = sum(target + 1 for target in targets)
@@ -92,12 +121,41 @@ def marks_of(many):
     return [list(some) for size in range(many + 1) for some in itertools.combinations(range(many), size)]
 
 
+def line(many, up):
+    """Rooms in a line, the ends of which stay; from the others one goes up with this chance, else down."""
+    down = (up[1] - up[0], up[1])
+    inner = [[(room - 1, down), (room + 1, up)] for room in range(1, many - 1)]
+    return [[(0, (1, 1))]] + inner + [[(many - 1, (1, 1))]]
+
+
+def ring(many):
+    return [[((room + 1) % many, (1, 1))] for room in range(many)]
+
+
+def long_chain(many):
+    """All ways in all rooms, the chances of nine figures, the bottoms of different rows without common divisors."""
+    chooser = random.Random(many)
+    primes = (999999937, 999999929, 999999893, 999999883, 999999797,
+              999999761, 999999757, 999999751, 999999739, 999999733)
+    chain = []
+    for whole in primes[:many]:
+        cuts = [0] + sorted(chooser.sample(range(1, whole), many - 1)) + [whole]
+        chain.append([(room, as_pair(fractions.Fraction(high - low, whole)))
+                      for room, (low, high) in enumerate(zip(cuts, cuts[1:]))])
+    return chain
+
+
 def some_chains(many, count):
     """So many chains of so many rooms, the same ones each time, with few ways in most rooms."""
     chooser = random.Random(many)
     sizes = [min(size, many) for size in (1, 1, 1, 2, 2, 3)]
     return [[uneven_row(sorted(chooser.sample(range(many), chooser.choice(sizes)))) for room in range(many)]
             for chain in range(count)]
+
+
+def uneven_costs(many):
+    """Costs for so many rooms, some of them 0."""
+    return [as_pair(fractions.Fraction(room * 7 % 5, room * 3 % 4 + 1)) for room in range(many)]
 
 
 def questions():

@@ -5,31 +5,12 @@ import unittest
 from chancehouse.ever import ever, ever_holds, ever_paper
 from chancehouse.exact import fraction
 from chancehouse.roads import ranks
-from helper import chains_of, is_fraction, marks_of, questions, tells, uneven_row
+from helper import (
+    ALONE, HALF, HALL, NOUGHT, ONE, THIRD, as_fraction, chains_of, is_fraction, line, marks_of, questions,
+    tells, uneven_row, weighed_by_hand,
+)
 
-NOUGHT = (0, 1)
-ONE = (1, 1)
-HALF = (1, 2)
-THIRD = (1, 3)
-ALONE = [[(0, ONE)]]
 RING = [[((room + 1) % 10, ONE)] for room in range(10)]
-# 0 leads on to 1 or back into itself, 1 to 2 or into the trap 3; 4 leads to 0 and 2.
-HALL = [[(0, HALF), (1, HALF)], [(2, THIRD), (3, (2, 3))], [(0, ONE)], [(3, ONE)], [(0, HALF), (2, HALF)]]
-
-
-def as_fraction(one):
-    return fractions.Fraction(one[0], one[1])
-
-
-def line(many, up):
-    """Rooms in a line, the ends of which stay; from the others one goes up with this chance, else down."""
-    down = (up[1] - up[0], up[1])
-    inner = [[(room - 1, down), (room + 1, up)] for room in range(1, many - 1)]
-    return [[(0, ONE)]] + inner + [[(many - 1, ONE)]]
-
-
-def weighed_by_hand(row, values):
-    return sum(as_fraction(chance) * as_fraction(values[room]) for room, chance in row)
 
 
 def broken(chain, marks, paper):

@@ -3,16 +3,12 @@ import math
 import unittest
 
 from chancehouse.sinks import sinks, turns
-from helper import chains_of, some_chains, tells
+from helper import chains_of, ring, some_chains, tells
 
 ONE = (1, 1)
 HALF = (1, 2)
 THIRD = (1, 3)
 ALONE = [[(0, ONE)]]
-
-
-def ring(many):
-    return [[((room + 1) % many, ONE)] for room in range(many)]
 
 
 def ring_with(many, start, target):
